@@ -1,0 +1,1 @@
+"""Coinroll: pay and dues of many years, to the smallest coin."""
