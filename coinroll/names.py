@@ -1,4 +1,4 @@
-"""What is a name and what is a mark."""
+"""What is a name, what is a mark, and whether names or numbers rise."""
 
 LETTERS = "abcdefghijklmnopqrstuvwxyz"
 FIGURES = "0123456789"
@@ -20,3 +20,7 @@ def is_name(thing):
 
 def is_mark(thing):
     return is_word_of(thing, LETTERS + FIGURES)
+
+
+def rise(things):
+    return all([thing < after for thing, after in zip(things, things[1:])])

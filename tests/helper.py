@@ -70,3 +70,26 @@ def no_ways():
 
 def no_parts():
     return no_numbers() + [-1, 20001, -20000, 20002, 10 ** 1000, -10 ** 1000]
+
+
+def no_months():
+    return no_numbers() + ["2031-04", -1, 120000, -120000, 120001, 10 ** 1000, -10 ** 1000]
+
+
+def no_years():
+    return no_numbers() + ["2031", -1, 10000, -9999, 10001, 10 ** 1000, -10 ** 1000]
+
+
+def no_rule_amounts():
+    return no_numbers() + [-1, 10 ** 12 + 1, -10 ** 12, 10 ** 1000, -10 ** 1000]
+
+
+def no_names():
+    return no_texts() + [
+        "", "abcdefghi", "a" * 1000, "A", "Tax", "taX", "a1", "1", "0", " ", "a b", " a", "a ", "a\n", "\n", "a-b", "a_b",
+        ["a"], ("a",), {"a": "a"}, {"a"}, b"a",
+    ]
+
+
+def no_rule_names():
+    return no_names() + ["base", "net", "month", "sums"]

@@ -100,5 +100,198 @@ class TestForms(unittest.TestCase):
                 self.assertIn(node.attr, METHODS | {"add", "discard", "title", "__init__"}, (name, node.lineno))
 
 
+STATEMENTS = (
+    ast.FunctionDef, ast.ClassDef, ast.Assign, ast.AugAssign, ast.If, ast.While, ast.For, ast.Return, ast.Break,
+    ast.Continue, ast.Pass, ast.Raise, ast.Try, ast.Expr, ast.ImportFrom,
+)
+
+WALKED = {"zip", "enumerate", "reversed", "range"}
+WALKERS = {"list", "tuple", "dict", "sorted", "sum", "any", "all", "enumerate", "zip", "min", "max"}
+KEYWORDS = {"sorted": {"key", "reverse"}, "min": {"key", "default"}, "max": {"key", "default"}, "sum": {"start"},
+            "enumerate": {"start"}, "zip": {"strict"}}
+
+
+def is_call_of(node, names):
+    return isinstance(node, ast.Call) and isinstance(node.func, ast.Name) and node.func.id in names
+
+
+def is_plain_value(node):
+    if isinstance(node, (ast.Tuple, ast.List)):
+        return all(is_plain_value(part) for part in node.elts)
+    return isinstance(node, ast.Constant)
+
+
+def bound_in(function):
+    """The parameters and locals of a function, those of functions within it too."""
+    for node in ast.walk(function):
+        if isinstance(node, ast.arg):
+            yield node.arg
+        elif isinstance(node, ast.Name) and isinstance(node.ctx, ast.Store):
+            yield node.id
+
+
+def top_names(tree):
+    names = []
+    for node in tree.body:
+        if isinstance(node, ast.ImportFrom):
+            names += [alias.asname or alias.name for alias in node.names]
+        elif isinstance(node, (ast.FunctionDef, ast.ClassDef)):
+            names.append(node.name)
+        elif isinstance(node, ast.Assign):
+            names += [target.id for target in node.targets]
+    return names
+
+
+def own_names(tree):
+    return {name for node in tree.body if not isinstance(node, ast.ImportFrom)
+            for name in top_names(ast.Module([node], []))}
+
+
+class TestTops(unittest.TestCase):
+    def test_only_what_may_stand_at_the_top(self):
+        for name, tree in trees():
+            self.assertIsInstance(ast.get_docstring(tree), str, name)
+            for node in tree.body[1:]:
+                self.assertIsInstance(node, (ast.ImportFrom, ast.FunctionDef, ast.ClassDef, ast.Assign), name)
+                if isinstance(node, ast.Assign):
+                    self.assertTrue(is_plain_value(node.value), (name, node.lineno))
+
+    def test_each_name_is_bound_once(self):
+        for name, tree in trees():
+            names = top_names(tree)
+            self.assertEqual(len(names), len(set(names)), name)
+
+    def test_imports_are_defined_where_they_are_drawn_from_and_are_used(self):
+        own = {name: own_names(tree) for name, tree in trees()}
+        for name, tree in trees():
+            used = {node.id for node in ast.walk(tree) if isinstance(node, ast.Name)}
+            for node in tree.body:
+                if isinstance(node, ast.ImportFrom):
+                    for alias in node.names:
+                        self.assertIn(alias.name, own[node.module.split(".")[1] + ".py"], name)
+                        self.assertIsNone(alias.asname, name)
+                        self.assertIn(alias.name, used, name)
+
+    def test_no_two_files_draw_from_one_another(self):
+        drawn = {}
+        for name, tree in trees():
+            drawn[name] = {node.module.split(".")[1] + ".py" for node in tree.body if isinstance(node, ast.ImportFrom)}
+        while drawn:
+            free = [name for name in drawn if not drawn[name] & set(drawn)]
+            self.assertTrue(free, sorted(drawn))
+            for name in free:
+                drawn.pop(name)
+
+    def test_locals_are_called_like_no_class_import_or_top_name(self):
+        for name, tree in trees():
+            taken = set(top_names(tree))
+            for node in ast.walk(tree):
+                if isinstance(node, (ast.FunctionDef, ast.Lambda)):
+                    self.assertEqual(taken & set(bound_in(node)), set(), (name, node.lineno))
+
+
+class TestClasses(unittest.TestCase):
+    def classes(self):
+        return [(name, node) for name, node in nodes() if isinstance(node, ast.ClassDef)]
+
+    def test_plain_classes(self):
+        for name, node in self.classes():
+            self.assertLessEqual(len(node.bases), 1, (name, node.name))
+            self.assertEqual((node.keywords, node.decorator_list), ([], []), (name, node.name))
+            for part in node.body:
+                self.assertIsInstance(part, (ast.FunctionDef, ast.Pass), (name, node.name))
+            methods = [part.name for part in node.body if isinstance(part, ast.FunctionDef)]
+            self.assertEqual(len(methods), len(set(methods)), (name, node.name))
+            self.assertEqual([word for word in methods if word.startswith("_") and word != "__init__"], [], name)
+
+    def test_no_name_is_a_method_here_and_a_value_there(self):
+        methods = {part.name for name, node in self.classes() for part in node.body if isinstance(part, ast.FunctionDef)}
+        values = {node.attr for name, node in nodes() if isinstance(node, ast.Attribute)
+                  and isinstance(node.ctx, ast.Store)}
+        self.assertEqual(methods & values, set())
+        self.assertEqual((methods | values) & (PYTHON_METHODS - {"__init__"}), set())
+
+
+class TestSteps(unittest.TestCase):
+    def test_statements(self):
+        for name, node in nodes():
+            if isinstance(node, ast.stmt):
+                self.assertIsInstance(node, STATEMENTS, (name, node.lineno))
+            if isinstance(node, ast.Assign):
+                self.assertEqual(len(node.targets), 1, (name, node.lineno))
+                self.assertNotIsInstance(node.targets[0], (ast.Tuple, ast.List), (name, node.lineno))
+            if isinstance(node, (ast.For, ast.While)):
+                self.assertEqual(node.orelse, [], (name, node.lineno))
+            if isinstance(node, ast.Try):
+                self.assertEqual(node.finalbody, [], (name, node.lineno))
+            if isinstance(node, ast.Expr) and not isinstance(node.value, ast.Call):
+                self.assertEqual(node.value.lineno, 1, (name, node.lineno))
+
+    def test_only_refusals_of_the_program_are_taken(self):
+        for name, node in nodes():
+            if isinstance(node, ast.ExceptHandler):
+                self.assertIsInstance(node.type, ast.Name, (name, node.lineno))
+                self.assertNotIn(node.type.id, dir(builtins), (name, node.lineno))
+
+    def test_expressions(self):
+        for name, node in nodes():
+            place = (name, getattr(node, "lineno", 0))
+            if isinstance(node, ast.ListComp):
+                self.assertEqual(len(node.generators), 1, place)
+                self.assertLessEqual(len(node.generators[0].ifs), 1, place)
+            if isinstance(node, ast.FormattedValue):
+                self.assertIsInstance(node.value, ast.Name, place)
+                self.assertIsNone(node.format_spec, place)
+            if isinstance(node, ast.Compare):
+                for operator, other in zip(node.ops, node.comparators):
+                    if isinstance(operator, (ast.Is, ast.IsNot)):
+                        self.assertIn(ast.unparse(other), ("None", "True", "False"), place)
+            if isinstance(node, ast.Constant) and isinstance(node.value, str):
+                self.assertNotIn("%", node.value, place)
+            self.assertNotIsInstance(node, (ast.Pow, ast.AnnAssign, ast.Set), place)
+            self.assertIsNone(getattr(node, "annotation", None) or getattr(node, "returns", None), place)
+
+    def test_keywords(self):
+        for name, node in nodes():
+            if isinstance(node, ast.Call) and node.keywords:
+                self.assertIsInstance(node.func, ast.Name, (name, node.lineno))
+                self.assertLessEqual({word.arg for word in node.keywords}, KEYWORDS[node.func.id], (name, node.lineno))
+
+    def test_what_is_walked_is_walked_on_the_spot(self):
+        for name, tree in trees():
+            walked = set()
+            for node in ast.walk(tree):
+                if isinstance(node, (ast.For, ast.comprehension)):
+                    walked.add(node.iter)
+                elif is_call_of(node, WALKERS) and node.args:
+                    walked.add(node.args[0])
+                elif isinstance(node, ast.Call) and isinstance(node.func, ast.Attribute) and node.func.attr == "join":
+                    walked.add(node.args[0])
+            for node in ast.walk(tree):
+                method = isinstance(node, ast.Call) and isinstance(node.func, ast.Attribute) and node.func.attr
+                if is_call_of(node, WALKED) or method in ("items", "keys", "values"):
+                    self.assertIn(node, walked, (name, node.lineno))
+
+    def test_sets_stand_within_sorted_or_len(self):
+        for name, tree in trees():
+            within = {node.args[0] for node in ast.walk(tree) if is_call_of(node, {"sorted", "len"})}
+            for node in ast.walk(tree):
+                if is_call_of(node, {"set", "frozenset"}):
+                    self.assertIn(node, within, (name, node.lineno))
+
+    def test_pythons_own_are_called_not_kept(self):
+        for name, tree in trees():
+            called = {node.func for node in ast.walk(tree) if isinstance(node, ast.Call)}
+            kinds = set()
+            for node in ast.walk(tree):
+                if is_call_of(node, {"isinstance"}):
+                    kinds |= set(ast.walk(node.args[1]))
+                elif isinstance(node, ast.ClassDef):
+                    kinds |= set(node.bases)
+            for node in ast.walk(tree):
+                if isinstance(node, ast.Name) and hasattr(builtins, node.id):
+                    self.assertIn(node, called | kinds, (name, node.lineno))
+
+
 if __name__ == "__main__":
     unittest.main()

@@ -1,6 +1,6 @@
 import unittest
 
-from coinroll.names import is_mark, is_name
+from coinroll.names import is_mark, is_name, rise
 
 from helper import no_texts
 
@@ -41,6 +41,16 @@ class TestNames(unittest.TestCase):
         for thing in no_texts() + [["a"], ("a",), {"a": 1}, {"a"}, b"a", [97]]:
             self.assertIs(is_name(thing), False)
             self.assertIs(is_mark(thing), False)
+
+
+class TestRise(unittest.TestCase):
+    def test_what_rises(self):
+        for things in ([], [5], [0, 1], [-3, 0, 10 ** 30], ["a", "aa", "b"], list(range(50))):
+            self.assertIs(rise(things), True)
+
+    def test_what_doesnt(self):
+        for things in ([1, 1], [2, 1], [0, 1, 1], [0, 2, 1], [1, 0, 2], ["b", "a"], ["a", "a"]):
+            self.assertIs(rise(things), False)
 
 
 if __name__ == "__main__":
