@@ -93,3 +93,14 @@ def no_names():
 
 def no_rule_names():
     return no_names() + ["base", "net", "month", "sums"]
+
+
+def no_days():
+    return no_numbers() + [-1, -2, -10 ** 1000]
+
+
+def no_marks():
+    return no_texts() + [
+        "", "123456789", "abcdefghi", "a" * 1000, "A", "A1", "a1B", " ", "a 1", " a", "a ", "a\n", "a-1", "a_1", "-",
+        ["a"], ("a",), {"a": "a"}, {"a"}, b"a",
+    ]
