@@ -36,11 +36,9 @@ def words_of(row):
 
 
 def names_of_head(words):
-    if len(words) < 3 or words[:2] != ["month", "base"] or words[-1] != "net":
-        raise BadText("a paper's head is month, base, the names of dues, net")
     names = words[2:-1]
-    if not all([is_rule_name(name) for name in names]) or not rise(names):
-        raise BadText("the dues of a paper are called as rules are, their names rising")
+    if not all([is_rule_name(name) for name in names]):
+        raise BadText("the dues of a paper are called as rules are")
     return names
 
 
@@ -56,7 +54,7 @@ def statement_of(words, names):
     return (read_month(words[0]), base, dues, net)
 
 
-# Blanks, sums and dues that nobody has are not looked at one by one: written anew, the paper must be the same.
+# The head, blanks, sums and dues that nobody has aren't looked at one by one: written anew, the paper must be the same.
 def read_paper(text):
     if not isinstance(text, str):
         raise BadText("a paper is a text")

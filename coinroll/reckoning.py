@@ -1,6 +1,6 @@
 """What is due of a month, and the statements of months."""
 
-from coinroll.months import need_month, year_of
+from coinroll.months import year_of
 
 
 def dues_of(rules, bases):
@@ -24,5 +24,4 @@ def statement_by(rules, month, bases):
 
 
 def statement(book, month, bases):
-    need_month(month)
     return statement_by(book.rules(year_of(month)), month, bases)

@@ -53,9 +53,8 @@ class Rule:
     def depth(self):
         return 0
 
+    # Of no month at all this is nought: nothing is due till then, and no month lies ahead.
     def of_month(self, bases):
-        if len(bases) == 0:
-            return 0
         return self.until(bases) - self.until(bases[:-1])
 
 

@@ -107,6 +107,9 @@ class TestStatement(unittest.TestCase):
         self.assertEqual(statement(self.book, JANUARY + 11, [3] * 12), (JANUARY + 11, 3, (("fee", 2), ("tax", 2)), -1))
         self.assertEqual(statement(self.book, JANUARY + 1, [3, 0]), (JANUARY + 1, 0, (("fee", 0), ("tax", 0)), 0))
 
+    def test_no_base(self):
+        self.assertEqual(statement(self.book, JANUARY, []), (JANUARY, 0, (("fee", 0), ("tax", 0)), 0))
+
     def test_months_between_and_behind_the_years_told(self):
         self.assertEqual(statement(self.book, JANUARY + 12, [4]), (JANUARY + 12, 4, (("fee", 2), ("tax", 2)), 0))
         self.assertEqual(statement(self.book, JANUARY + 24, [4]), (JANUARY + 24, 4, (), 4))
