@@ -169,6 +169,8 @@ class TestRowsOf(unittest.TestCase):
     def test_only_blanks_are_taken_from_the_end(self):
         self.assertEqual(rows_of([["a", "b."], ["c", "d-"]]), ["a  b.", "c  d-"])
         self.assertEqual(rows_of([["a\t"], ["b"]]), ["a\t", "b"])
+        for number in range(33, 127):
+            self.assertEqual(rows_of([["a", chr(number)]]), ["a  " + chr(number)])
 
     def test_the_table_stays_as_it_was(self):
         table = [["a ", "", "c"], ["longer", "b ", ""]]
